@@ -1,98 +1,123 @@
 package mpoly
 
 import (
-	"math/bits"
-
 	"cleaver/api"
 	"cleaver/zint"
 )
 
-// primes are those by which rests are taken: great ones, so that hardly any number that is not 0 has the rest 0.
-var primes = [3]uint64{1<<63 - 25, 1<<63 - 165, 1<<63 - 259}
-
 // goesInto tells whether there is a q with a = q b, without q, which may have more terms than one can go through; neither a nor b is nought.
 // There is one, if b's content goes into a's, and b into a for each variable, as polynomials of that one alone, whose coefficients may be
-// divided by all that has it not: for what b is short of has none of the variables then. That is asked by great primes, with numbers in
-// the place of the other variables. Where b does not go into a so, it never does; that it goes by all the primes, at places that have nothing
-// to do with a and b, though not in truth, is one chance of some 2^100.
+// divided by all that has it not: for what b is short of has none of the variables then. That is tried by primes, with numbers in the
+// place of the other variables: if b goes into a, it does so in every try. So false is always right.
+//
+// And true is, as there are more tries than any a and b could pass by: If b does not go into a, as polynomials of one variable, there is a
+// rest, after a is multiplied by powers of b's first coefficient. One of the rest's coefficients, by that first one, is a polynomial of
+// degree below 2^23, of numbers below 2^(2^28). Some 2^22 primes may divide it, of those from 2^62 to 2^63, which are more than 2^56; by the
+// others it is 0 at no more than one of 2^39 places. So no more than one try of 2^34 sees nothing. For each word of a and b there
+// are two tries, which makes 68 bits for 64: if the tries are any ones, it is by a chance of one in 2^100 that there is even one such
+// pair among all that may be handed in, of any length, whoever thinks it out.
 func goesInto(b, a []term) bool {
-	if _, e := zint.Exact(content(a), content(b)); e != api.OK {
+	ofA, ofB := content(a), content(b)
+	if _, e := zint.Exact(ofA, ofB); e != api.OK {
 		return false
 	}
-	for i, degree := range degrees(b) {
-		for _, p := range primes {
-			if degree > 0 && !divides(seen(b, i, p), seen(a, i, p), p) {
-				return false
-			}
+	a, b = over(a, ofA), over(b, ofB) // the fewer words are left, the fewer tries
+	l := &lot{}
+	for range 2*(words(a)+words(b)) + 4 {
+		if !goesBy(newTry(l), b, a) {
+			return false
 		}
 	}
 	return true
 }
 
-// seen is a polynomial of the variable i alone, by p, the others' places taken by numbers; the lowest coefficient first.
-func seen(l []term, i int, p uint64) []uint64 {
-	z := make([]uint64, degrees(l)[i]+1)
-	numbers := othersOf(p)
+// words is how many of 64 bits say all of a polynomial: a term's exponents and sign take one.
+func words(l []term) int {
+	sum := len(l)
 	for _, t := range l {
-		value := rest(t.c, p)
-		for j, e := range t.at {
-			if j != i {
-				value = times(value, powerBy(numbers[j], uint64(e), p), p)
-			}
+		sum += len(t.c.Abs)
+	}
+	return sum
+}
+
+// try is a prime, and a number in each variable's place.
+type try struct {
+	*modulus
+	places [api.MaxVars]uint64
+}
+
+func newTry(l *lot) *try {
+	t := &try{modulus: newPrime(l)}
+	for i := range t.places {
+		t.places[i] = l.below(t.p)
+	}
+	return t
+}
+
+// goesBy: does b go into a for each of its variables, by this try?
+func goesBy(t *try, b, a []term) bool {
+	inB, inA := t.seen(b), t.seen(a)
+	for i, degree := range degrees(b) {
+		if degree > 0 && !t.divides(inB[i], inA[i]) {
+			return false
 		}
-		z[t.at[i]] = (z[t.at[i]] + value) % p
 	}
-	return z
+	return true
 }
 
-// othersOf are numbers that no one would think of; where they come from says nothing.
-func othersOf(p uint64) [api.MaxVars]uint64 {
-	numbers, last := [api.MaxVars]uint64{}, p
-	for i := range numbers {
-		last = last*6364136223846793005 + 1442695040888963407
-		numbers[i] = (last ^ last>>29) % p
+// seen is a polynomial of each variable alone, the lowest coefficient first: the variable that many times, with all places taken. Each is
+// so by the same number, which says nothing to what goes into what.
+func (t *try) seen(l []term) [api.MaxVars][]uint64 {
+	all, powers := [api.MaxVars][]uint64{}, [api.MaxVars][]uint64{}
+	for i, degree := range degrees(l) {
+		all[i] = make([]uint64, degree+1)
+		powers[i] = t.powers(t.places[i], int(degree))
 	}
-	return numbers
-}
-
-// rest is that of an integer by p.
-func rest(c api.Int, p uint64) uint64 {
-	r := uint64(0)
-	for k := len(c.Abs) - 1; k >= 0; k-- {
-		r = bits.Rem64(r, c.Abs[k], p)
-	}
-	if c.Neg && r > 0 {
-		return p - r
-	}
-	return r
-}
-
-func times(x, y, p uint64) uint64 {
-	high, low := bits.Mul64(x, y)
-	return bits.Rem64(high, low, p)
-}
-
-func powerBy(x, n, p uint64) uint64 {
-	z := uint64(1)
-	for ; n > 0; n /= 2 {
-		if n%2 == 1 {
-			z = times(z, x, p)
+	ahead := [api.MaxVars + 1]uint64{t.one} // the product of the powers ahead of each variable
+	last := exponents{-1}
+	for _, u := range l {
+		for i := unlike(u.at, last); i < len(u.at); i++ {
+			ahead[i+1] = t.times(ahead[i], powers[i][u.at[i]])
 		}
-		x = times(x, x, p)
+		last = u.at
+		value := t.times(t.rest(u.c), ahead[len(u.at)])
+		for i, e := range u.at {
+			all[i][e] = t.plus(all[i][e], value)
+		}
 	}
-	return z
+	return all
 }
 
-// divides: does b go into a, by p? It takes all rests in a's place.
-func divides(b, a []uint64, p uint64) bool {
+// unlike is the first place at which exponents are.
+func unlike(x, y exponents) int {
+	for i := range x {
+		if x[i] != y[i] {
+			return i
+		}
+	}
+	return len(x)
+}
+
+// powers are those of a number up to a degree.
+func (t *try) powers(x uint64, degree int) []uint64 {
+	l := make([]uint64, degree+1)
+	l[0] = t.one
+	for e := range degree {
+		l[e+1] = t.times(l[e], x)
+	}
+	return l
+}
+
+// divides: does b go into a? It takes all rests in a's place.
+func (t *try) divides(b, a []uint64) bool {
 	for len(b) > 0 && b[len(b)-1] == 0 {
 		b = b[:len(b)-1]
 	}
 	if len(b) > 0 {
 		top := len(b) - 1
-		over := powerBy(b[top], p-2, p) // the inverse, by Fermat
+		inverse := t.power(b[top], t.p-2) // by Fermat
 		for ; len(a) > top; a = a[:len(a)-1] {
-			takeTimes(a[len(a)-len(b):], b, p-times(a[len(a)-1], over, p), p)
+			t.takeTimes(a[len(a)-len(b):], b, t.times(a[len(a)-1], inverse))
 		}
 	}
 	for _, r := range a {
@@ -103,9 +128,15 @@ func divides(b, a []uint64, p uint64) bool {
 	return true
 }
 
-// takeTimes adds to a that many times b, by p.
-func takeTimes(a, b []uint64, n, p uint64) {
+// takeTimes takes b away from a that many times.
+func (t *try) takeTimes(a, b []uint64, n uint64) {
+	if n == 0 {
+		return
+	}
+	less := t.p - n
 	for k, r := range b {
-		a[k] = (a[k] + times(r, n, p)) % p
+		if r != 0 {
+			a[k] = t.plus(a[k], t.times(r, less))
+		}
 	}
 }

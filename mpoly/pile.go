@@ -121,3 +121,13 @@ func content(l []term) api.Int {
 	}
 	return shared
 }
+
+// over is a polynomial by a number that divides all its coefficients.
+func over(l []term, c api.Int) []term {
+	z := make([]term, len(l))
+	for k, t := range l {
+		z[k].at = t.at
+		z[k].c, _ = zint.Exact(t.c, c)
+	}
+	return z
+}
