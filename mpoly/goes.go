@@ -2,6 +2,7 @@ package mpoly
 
 import (
 	"cleaver/api"
+	"cleaver/modulus"
 	"cleaver/zint"
 )
 
@@ -22,7 +23,7 @@ func goesInto(b, a []term) bool {
 		return false
 	}
 	a, b = over(a, ofA), over(b, ofB) // the fewer words are left, the fewer tries
-	l := &lot{}
+	l := &modulus.Lot{}
 	for range 2*(words(a)+words(b)) + 4 {
 		if !goesBy(newTry(l), b, a) {
 			return false
@@ -42,14 +43,14 @@ func words(l []term) int {
 
 // try is a prime, and a number in each variable's place.
 type try struct {
-	*modulus
+	*modulus.Modulus
 	places [api.MaxVars]uint64
 }
 
-func newTry(l *lot) *try {
-	t := &try{modulus: newPrime(l)}
+func newTry(l *modulus.Lot) *try {
+	t := &try{Modulus: l.Prime()}
 	for i := range t.places {
-		t.places[i] = l.below(t.p)
+		t.places[i] = l.Below(t.P)
 	}
 	return t
 }
@@ -71,18 +72,18 @@ func (t *try) seen(l []term) [api.MaxVars][]uint64 {
 	all, powers := [api.MaxVars][]uint64{}, [api.MaxVars][]uint64{}
 	for i, degree := range degrees(l) {
 		all[i] = make([]uint64, degree+1)
-		powers[i] = t.powers(t.places[i], int(degree))
+		powers[i] = t.Powers(t.places[i], int(degree))
 	}
-	ahead := [api.MaxVars + 1]uint64{t.one} // the product of the powers ahead of each variable
+	ahead := [api.MaxVars + 1]uint64{t.One} // the product of the powers ahead of each variable
 	last := exponents{-1}
 	for _, u := range l {
 		for i := unlike(u.at, last); i < len(u.at); i++ {
-			ahead[i+1] = t.times(ahead[i], powers[i][u.at[i]])
+			ahead[i+1] = t.Times(ahead[i], powers[i][u.at[i]])
 		}
 		last = u.at
-		value := t.times(t.rest(u.c), ahead[len(u.at)])
+		value := t.Times(t.Rest(u.c), ahead[len(u.at)])
 		for i, e := range u.at {
-			all[i][e] = t.plus(all[i][e], value)
+			all[i][e] = t.Plus(all[i][e], value)
 		}
 	}
 	return all
@@ -98,16 +99,6 @@ func unlike(x, y exponents) int {
 	return len(x)
 }
 
-// powers are those of a number up to a degree.
-func (t *try) powers(x uint64, degree int) []uint64 {
-	l := make([]uint64, degree+1)
-	l[0] = t.one
-	for e := range degree {
-		l[e+1] = t.times(l[e], x)
-	}
-	return l
-}
-
 // divides: does b go into a? It takes all rests in a's place.
 func (t *try) divides(b, a []uint64) bool {
 	for len(b) > 0 && b[len(b)-1] == 0 {
@@ -115,9 +106,9 @@ func (t *try) divides(b, a []uint64) bool {
 	}
 	if len(b) > 0 {
 		top := len(b) - 1
-		inverse := t.power(b[top], t.p-2) // by Fermat
+		inverse := t.Inverse(b[top])
 		for ; len(a) > top; a = a[:len(a)-1] {
-			t.takeTimes(a[len(a)-len(b):], b, t.times(a[len(a)-1], inverse))
+			t.takeTimes(a[len(a)-len(b):], b, t.Times(a[len(a)-1], inverse))
 		}
 	}
 	for _, r := range a {
@@ -133,10 +124,10 @@ func (t *try) takeTimes(a, b []uint64, n uint64) {
 	if n == 0 {
 		return
 	}
-	less := t.p - n
+	less := t.P - n
 	for k, r := range b {
 		if r != 0 {
-			a[k] = t.plus(a[k], t.times(r, less))
+			a[k] = t.Plus(a[k], t.Times(r, less))
 		}
 	}
 }
