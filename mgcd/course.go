@@ -60,6 +60,20 @@ func (p *powers) worth(at exponents) uint64 {
 	return z
 }
 
+// worths are those of all terms at a point, by side.
+func (q *quest) worths(m *modulus.Modulus, at point) [][]uint64 {
+	var all [][]uint64
+	for _, side := range q.sides {
+		p := powersOf(m, at, degrees(side))
+		worths := make([]uint64, len(side))
+		for k, t := range side {
+			worths[k] = p.worth(t.at)
+		}
+		all = append(all, worths)
+	}
+	return all
+}
+
 // course is a way of looks: at a point, and on from each point to the next one, by the same steps.
 type course struct {
 	*basis
@@ -69,27 +83,40 @@ type course struct {
 }
 
 func (q *quest) course(b *basis, v *view, start, step point) *course {
-	c := &course{basis: b, view: v, look: q.look}
-	for s, side := range q.sides {
-		high := degrees(side)
-		from, on := powersOf(b.Modulus, start, high), powersOf(b.Modulus, step, high)
-		values, steps := make([]uint64, len(side)), make([]uint64, len(side))
-		for k, t := range side {
-			values[k], steps[k] = b.Times(b.rests[s][k], from.worth(t.at)), on.worth(t.at)
+	c := q.stand(b, v, start)
+	c.steps = q.worths(b.Modulus, step)
+	return c
+}
+
+// stand is a course of one look alone.
+func (q *quest) stand(b *basis, v *view, at point) *course {
+	c := &course{basis: b, view: v, look: q.look, values: q.worths(b.Modulus, at)}
+	for s, values := range c.values {
+		for k, r := range b.rests[s] {
+			values[k] = b.Times(values[k], r)
 		}
-		c.values, c.steps = append(c.values, values), append(c.steps, steps)
 	}
 	return c
 }
 
-// next is the next look; nil, if a side's first or last coefficient is 0, which tells nothing.
+// next is the next look; nil, if it tells nothing.
 func (c *course) next() dense {
+	z := c.here()
+	for s, values := range c.values {
+		for k, step := range c.steps[s] {
+			values[k] = c.Times(values[k], step)
+		}
+	}
+	return z
+}
+
+// here is the look at the point where the course is; nil, if a side's first or last coefficient is 0, which tells nothing.
+func (c *course) here() dense {
 	sides := make([]dense, len(c.values))
 	for s, values := range c.values {
-		side, places, steps := make(dense, c.spans[s]+1), c.places[s], c.steps[s]
+		side, places := make(dense, c.spans[s]+1), c.places[s]
 		for k, value := range values {
 			side[places[k]] = c.Plus(side[places[k]], value)
-			values[k] = c.Times(value, steps[k])
 		}
 		if side[0] == 0 || last(side) == 0 {
 			return nil // what divides the side might look as if it were of a lower degree
@@ -103,8 +130,7 @@ func (c *course) next() dense {
 func (q *quest) glance(v *view) dense {
 	for {
 		b := q.basis()
-		at := q.point(b.Modulus)
-		if z := q.course(b, v, at, at).next(); z != nil {
+		if z := q.stand(b, v, q.point(b.Modulus)).here(); z != nil {
 			return z
 		}
 	}

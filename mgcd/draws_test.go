@@ -10,18 +10,18 @@ import (
 	"cleaver/modulus"
 )
 
-// Draws say nothing but how long it takes, even where they are the worst that can be.
+// Draws say nothing but how long it takes, even where they are the worst that can be. They are known: they are always the same ones.
 
-// known are some draws; a quest of n variables looks at each of them by one prime, before it searches by the next ones.
-var known = [4]uint64{5, 6, 7, 8}
-
-// found fails, unless that is found by the known draws.
+// found fails, unless that is the Gcd of two, or the Radical of one.
 func found(t *testing.T, what string, n int, wanted []api.Term, sides ...[]api.Term) {
 	t.Helper()
-	z, may := mgcd.FindBy(known, n, sides...)
-	if !may || !same(z, wanted) {
-		t.Fatalf("%s: %s, %v, not %s", what, text(z), may, text(wanted))
+	if len(sides) == 1 {
+		z, e := mgcd.Radical(n, sides[0])
+		want(t, what, z, e, wanted)
+		return
 	}
+	z, e := mgcd.Gcd(n, sides[0], sides[1])
+	want(t, what, z, e, wanted)
 }
 
 // whole is the product of some primes.
@@ -38,9 +38,9 @@ func plusOften(n int, a []api.Term, often *big.Int, b []api.Term) []api.Term {
 	return norm(n, slices.Concat(a, times(n, []api.Term{{C: of(often), E: make([]int, n)}}, b)))
 }
 
-// bad are products of some of the first primes: those of the looks at two variables, of the search, of both.
+// bad are products of some of the first primes: those of the looks at two variables, by which a quest begins, of the search, of both.
 func bad() []*big.Int {
-	p := mgcd.Primes(known, 20)
+	p, _ := mgcd.Drawn(20)
 	return []*big.Int{whole(p[0]), whole(p[1]), whole(p[:2]...), whole(p[2]), whole(p[3]), whole(p[2:4]...), whole(p[:3]...), whole(p[:4]...), whole(p[1:3]...), whole(p[4:9]...), whole(p[:11]...), whole(p...)}
 }
 
@@ -79,12 +79,6 @@ func TestPrimesThatSeeMore(t *testing.T) {
 		found(t, "the Radical", 2, times(2, a, b), times(2, a, b, a))
 		found(t, "the Radical", 2, times(2, a, b), times(2, a, b))
 	}
-	for count := range 12 {
-		b := plusOften(2, a, whole(mgcd.Primes(known, count)...), more)
-		if !mgcd.IsWholeBy(known, 2, times(2, a, b)) || mgcd.IsWholeBy(known, 2, times(2, a, a, b)) {
-			t.Fatalf("Is, %d primes that see a factor twice", count)
-		}
-	}
 }
 
 // The first point of the search sees more in common than the next one: a term less its number there, in which there is no z.
@@ -93,7 +87,7 @@ func TestPointThatSeesMore(t *testing.T) {
 	for _, c := range [][2]string{{"x2y", "x2 +y +3"}, {"y", "x2 +xy +7"}, {"y", "x3 +xy +7"}, {"y", "x4 +xy +3"}, {"y", "x5 +x2y +7"}} {
 		free, a := poly(2, c[0]), poly(2, c[1])
 		with := func(number *big.Int) []api.Term { return plusOften(2, plusTimes(2, a, 1, free), number, poly(2, "-1")) }
-		at, weights := mgcd.FirstPoint(known, 2, times(2, a, g), times(2, with(big.NewInt(101)), g))
+		at, weights := mgcd.FirstPoint(2, times(2, a, g), times(2, with(big.NewInt(101)), g))
 		number, z := big.NewInt(1), uint64(0)
 		for i, e := range free[0].E {
 			number.Mul(number, new(big.Int).Exp(whole(at[i]), big.NewInt(int64(e)), nil))
@@ -101,60 +95,12 @@ func TestPointThatSeesMore(t *testing.T) {
 		}
 		if z == 0 {
 			hits++
-			p := mgcd.Primes(known, 3)[2]
-			found(t, "the Gcd", 2, g, times(2, a, g), times(2, with(number.Mod(number, whole(p))), g))
+			p, _ := mgcd.Drawn(3)
+			found(t, "the Gcd", 2, g, times(2, a, g), times(2, with(number.Mod(number, whole(p[2]))), g))
 		}
 	}
 	if hits == 0 {
 		t.Error("no point was bad")
-	}
-}
-
-// Primes by which what is sought has more terms than may be.
-func TestPrimesThatSeeTooManyTerms(t *testing.T) {
-	g, a, b := poly(3, "x +y +z"), unit(3), unit(3)
-	for i := range 3 {
-		a = product(3, a, less(3, i, 930))
-		b = product(3, b, less(3, i, 30), less(3, i, 31))
-	}
-	a = product(3, a, g)
-	for _, p := range [][]uint64{mgcd.Primes(known, 4)[3:], mgcd.Primes(known, 4)} {
-		found(t, "the Gcd", 3, g, a, product(3, plusOften(3, b, whole(p...), poly(3, "x2 +y -z")), g))
-	}
-}
-
-// There is no polynomial for which all draws are bad that are the same for others: they hang on all of what is handed in.
-func TestTraces(t *testing.T) {
-	g := poly(2, "x2 +xy -2y +7")
-	lists := [][]api.Term{
-		g, poly(2, "x2 +xy -2y -7"), poly(2, "x2 +xy -2y +8"), poly(2, "x2 +xy -2x +7"), poly(2, "x2 +xy -2y2 +7"), poly(2, "x3 +xy -2y +7"), poly(2, "y2 +xy -2y +7"), poly(2, "x2 +xy +7"),
-		plusOften(2, g, new(big.Int).Lsh(big.NewInt(1), 64), unit(2)), plusOften(2, g, new(big.Int).Lsh(big.NewInt(1), 128), unit(2)), unit(2),
-	}
-	seen := map[uint64]int{}
-	for _, trace := range mgcd.Traces(3, poly(3, "x2 +xy -2y +7")) {
-		seen[trace]++
-	}
-	for _, a := range lists {
-		for _, trace := range mgcd.Traces(2, a) {
-			seen[trace]++
-		}
-		for _, b := range lists {
-			for _, trace := range mgcd.Traces(2, a, b) {
-				seen[trace]++
-			}
-		}
-	}
-	if wanted := 4 * (1 + len(lists) + len(lists)*len(lists)); len(seen) != wanted {
-		t.Errorf("%d of %d traces are unlike", len(seen), wanted)
-	}
-	for k := range known {
-		other := known
-		other[k]++
-		all := append(mgcd.Primes(known, 9), mgcd.Primes(other, 9)...)
-		slices.Sort(all)
-		if all = slices.Compact(all); len(all) != 18 {
-			t.Errorf("of 18 primes some are the same: %d", all)
-		}
 	}
 }
 

@@ -5,38 +5,31 @@ import (
 	"cleaver/modulus"
 )
 
-// Traces are what a quest's draws hang on.
-func Traces(n int, sides ...[]api.Term) [4]uint64 { return questOf(n, sides).traces }
-
-// FindBy is what a quest finds by known draws.
-func FindBy(traces [4]uint64, n int, sides ...[]api.Term) ([]api.Term, bool) {
-	q := questOf(n, sides)
-	q.traces = traces
-	z, may := q.find()
-	return outer(n, z), may
+// Drawn are the first primes that a quest draws, and the first point by each.
+func Drawn(count int) (primes []uint64, points [][api.MaxVars]uint64) {
+	return drawn(&quest{draws: &draws{}}, count)
 }
 
-// IsWholeBy is whether one is squarefree, by known draws.
-func IsWholeBy(traces [4]uint64, n int, side []api.Term) bool {
-	q := questOf(n, [][]api.Term{side})
-	q.traces = traces
-	return q.isWhole()
+// DrawnToBeSure are those by which it is made sure of degrees.
+func DrawnToBeSure(count int) (primes []uint64, points [][api.MaxVars]uint64) {
+	return drawn((&quest{}).toBeSure(), count)
 }
 
-// Primes are the first ones of such draws.
-func Primes(traces [4]uint64, count int) []uint64 {
-	d := &draws{traces: traces}
-	var all []uint64
+func drawn(q *quest, count int) (primes []uint64, points [][api.MaxVars]uint64) {
 	for range count {
-		all = append(all, d.anew().P)
+		m := q.anew()
+		at := q.point(m)
+		for i, x := range at {
+			at[i] = m.Plain(x)
+		}
+		primes, points = append(primes, m.P), append(points, at)
 	}
-	return all
+	return primes, points
 }
 
 // FirstPoint is where the looks of a quest's first search start; weights are those of z.
-func FirstPoint(traces [4]uint64, n int, sides ...[]api.Term) (at, weights [api.MaxVars]uint64) {
+func FirstPoint(n int, sides ...[]api.Term) (at, weights [api.MaxVars]uint64) {
 	q := questOf(n, sides)
-	q.traces = traces
 	v := q.choose(q.degrees())
 	b := q.basis()
 	for i, x := range q.point(b.Modulus) {
@@ -44,6 +37,29 @@ func FirstPoint(traces [4]uint64, n int, sides ...[]api.Term) (at, weights [api.
 	}
 	return at, weights
 }
+
+// IsSure is whether looks at the variable i are of that degree as what is sought is.
+func IsSure(n, i, degree int, sides ...[]api.Term) bool {
+	q := questOf(n, sides)
+	return q.isSure(q.alone(i), degree)
+}
+
+// Looks is how many looks at the variable i make that sure, and how many bits each tells.
+func Looks(n, i int, sides ...[]api.Term) (count, telling int) {
+	q := questOf(n, sides)
+	v := q.alone(i)
+	return q.looksToBeSure(v), q.telling(v)
+}
+
+// IsProved is whether z is what is sought, if looks reach farther than that does, by so much.
+func IsProved(n, farther int, z []api.Term, sides ...[]api.Term) bool {
+	q := questOf(n, sides)
+	v := q.choose(q.degrees())
+	return q.isProved(v, inner(z), reach(v, inner(z))+farther)
+}
+
+// Derived is what is derived of a polynomial.
+func Derived(n int, a []api.Term) []api.Term { return outer(n, derived(inner(a))) }
 
 func questOf(n int, sides [][]api.Term) *quest {
 	if len(sides) == 1 {

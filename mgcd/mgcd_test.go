@@ -3,6 +3,7 @@ package mgcd_test
 import (
 	"fmt"
 	"slices"
+	"strings"
 	"testing"
 
 	"cleaver/api"
@@ -471,6 +472,35 @@ func TestRadicalHasAtMostSoManyTerms(t *testing.T) {
 		refuse(t, said("Radical", n, a), z, e, api.ErrLimit)
 		is(t, n, a, false)
 	}
+}
+
+// A polynomial may have fewer terms than what is in it twice: squares of 12 and 28 terms have roots of 13 and 29.
+func TestMoreTermsTwiceThanMayBe(t *testing.T) {
+	few := func(n, i int) []api.Term {
+		x := letters[i : i+1]
+		return times(n, poly(n, strings.ReplaceAll("125x6 +50x5 -10x4 +4x3 -2x2 +2x +1", "x", x)), poly(n, strings.ReplaceAll("-110x6 +1", "x", x)))
+	}
+	many := func(n, i int) []api.Term {
+		x := letters[i : i+1]
+		return times(n, poly(n, strings.ReplaceAll("4x4 +4x3 -2x2 +2x +1", "x", x)), poly(n, strings.ReplaceAll("-84x24 +28x20 -10x16 +4x12 -2x8 +2x4 +1", "x", x)))
+	}
+	root := product(2, few(2, 0), many(2, 1))
+	a := product(2, root, root)
+	if len(root) != 13*29 || len(a) != 12*28 {
+		t.Fatalf("%d terms, of the square %d", len(root), len(a))
+	}
+	radical(t, 2, a, upright(2, root))
+	is(t, 2, a, false)
+	gcd(t, 2, a, product(2, root, poly(2, "x +y")), upright(2, root))
+	a = product(3, times(3, few(3, 0), few(3, 0)), times(3, few(3, 1), few(3, 1)), times(3, many(3, 2), many(3, 2))) // of a root with 4901 terms
+	if len(a) != 12*12*28 {
+		t.Fatalf("%d terms", len(a))
+	}
+	z, e := mgcd.Radical(3, a)
+	refuse(t, "Radical of the square of 4901 terms", z, e, api.ErrLimit)
+	is(t, 3, a, false)
+	is(t, 3, product(3, few(3, 0), few(3, 0), many(3, 2), many(3, 2)), false)
+	is(t, 3, product(3, few(3, 1), many(3, 2)), true)
 }
 
 // Of what has fewer terms than the quotients on the way: these may be as long as they like.

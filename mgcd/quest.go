@@ -1,14 +1,10 @@
 package mgcd
 
 import (
-	"cleaver/api"
 	"cleaver/modulus"
 	"cleaver/mpoly"
 	"cleaver/zint"
 )
-
-// tries is how often it is looked at what a division can't tell, each time by another prime and with other numbers in the variables' places.
-const tries = 12
 
 // quest is what is sought of one polynomial, or of two: the sides, primitive, and divided by no variable. It is found by its looks, as
 // polynomials of one variable by a prime.
@@ -22,12 +18,12 @@ type quest struct {
 
 // ofBoth is the quest for the greatest common divisor.
 func ofBoth(n int, a, b []term) *quest {
-	return &quest{newDraws(n, a, b), n, [][]term{a, b}, lookOfBoth, 1}
+	return &quest{&draws{}, n, [][]term{a, b}, lookOfBoth, 1}
 }
 
 // ofOne is the quest for the radical.
 func ofOne(n int, a []term) *quest {
-	return &quest{newDraws(n, a), n, [][]term{a}, lookOfOne, -1}
+	return &quest{&draws{}, n, [][]term{a}, lookOfOne, -1}
 }
 
 // lookOfBoth: what divides both divides how both look, too; that may have more in common by chance.
@@ -57,7 +53,7 @@ func (q *quest) find() ([]term, bool) {
 		v := q.choose(high)
 		z, degree, how := q.search(v, high)
 		switch {
-		case how == found && q.holds(z) && (q.gain > 0 || q.isSure(v, degree)):
+		case how == found && q.isProved(v, z, degree):
 			return z, true
 		case how == tooLong && q.isSure(v, degree):
 			return nil, false
@@ -108,35 +104,4 @@ func (q *quest) known(high exponents) ([]term, bool) {
 		}
 	}
 	return nil, false
-}
-
-// holds: does a polynomial divide all sides? A quotient that is too long is one.
-func (q *quest) holds(z []term) bool {
-	for _, side := range q.sides {
-		if _, e := mpoly.Div(q.n, outer(q.n, side), outer(q.n, z)); e != api.OK && e != api.ErrLimit {
-			return false
-		}
-	}
-	return true
-}
-
-// isSure: is there no look that tells better than one of that degree did? That need not be asked where a divisor of both sides is found: as
-// looks are of no lower degree than the greatest one, there is none greater. Else looks that are wrong are one in 2^30, or fewer.
-func (q *quest) isSure(v *view, degree int) bool {
-	for range tries {
-		if q.gain*(len(q.glance(v))-1) < q.gain*degree {
-			return false
-		}
-	}
-	return true
-}
-
-// isWhole: has the side no factor twice? Each factor is in a look at one of its variables.
-func (q *quest) isWhole() bool {
-	for i, degree := range degrees(q.sides[0]) {
-		if degree > 1 && q.isSure(q.alone(i), degree-1) {
-			return false
-		}
-	}
-	return true
 }

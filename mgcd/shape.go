@@ -31,15 +31,15 @@ func (q *quest) shape(v *view, s *sight, high exponents) (*shape, bool) {
 			low = low.least(all[i])
 		}
 	}
+	top := exponents{}.less(low)
+	may := top.isWithin(high) // what is known of the degrees may be wrong
 	for _, all := range beyond {
 		for i := range all {
 			all[i] = all[i].less(low)
-			if !all[i].isWithin(high) {
-				return nil, false
-			}
+			may = may && all[i].isWithin(high)
 		}
 	}
-	return &shape{beyond, exponents{}.less(low), s.most}, true
+	return &shape{beyond, top, s.most}, may
 }
 
 // leftOut is the variable whose exponents the powers of z tell, if those of all others are known: the one of the highest degree.

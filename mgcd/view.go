@@ -47,6 +47,19 @@ func along(weights, at exponents) int {
 	return sum
 }
 
+// reach is how far a polynomial goes along a view; -1, if it is nought.
+func reach(v *view, l []term) int {
+	low, high := 0, -1
+	for k, t := range l {
+		place := along(v.weights, t.at)
+		if k == 0 {
+			low, high = place, place
+		}
+		low, high = min(low, place), max(high, place)
+	}
+	return high - low
+}
+
 // turn gives all weights the other sign.
 func (v *view) turn() {
 	for i := range v.weights {
